@@ -1,0 +1,1 @@
+"""A vector machine: lanes, masks, and lanes that fail by themselves."""
