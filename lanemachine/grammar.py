@@ -114,10 +114,11 @@ def read_signed(reader, told):
     below = reader.token.text == "_"
     if below:
         reader.advance()
-    number = reader.number_up_to(LARGEST)
-    # The sign is kept as it was told: _0 holds 0, and its plain text is _0.
-    told.parts.append(f"_{number}" if below else f"{number}")
-    told.operands.append(-number if below else number)
+    distance = reader.number_up_to(LARGEST)
+    number = -distance if below else distance
+    # By the number, not by its spelling: _0 tells 0, which is not below 0.
+    told.parts.append(f"_{distance}" if number < 0 else f"{distance}")
+    told.operands.append(number)
 
 
 def read_place(reader, told):

@@ -3,7 +3,7 @@
 import random
 import unittest
 
-from tests.support import NONE, OPERATORS, ask, ask_last, load, plain, plain_of, run, set_array, width
+from tests.support import NONE, OPERATORS, ask, ask_last, load, plain, plain_of, run, set_array, where, width
 
 MASKED = (["lanes v0", "const v1 7", "const v1 _7", "fill v2 s3", "copy v4 v5", "read v6 a0 v7",
            "pick v8 a1 v9 @3", "write a0 v10 v11", "test m1 v12"]
@@ -48,9 +48,21 @@ class TestPlain(unittest.TestCase):
 
     def test_numbers(self):
         big = "1000000000000000000"
-        for number in ["0", "_0", "1", "_1", "10", big, "_" + big]:
+        for number in ["0", "1", "_1", "10", big, "_" + big]:
             self.assertEqual(plain_of(f"num s0 {number};const v0 {number}?m1;"),
                              f"num s0 {number};\nconst v0 {number} ?m1;\n")
+
+    def test_zero_has_no_sign(self):
+        for zero in ["_0", "_ 0", "_# none\n0", "0"]:
+            self.assertEqual(plain_of(f"num s7 {zero};const v0 {zero};const v3 {zero} ?m1;"),
+                             "num s7 0;\nconst v0 0;\nconst v3 0 ?m1;\n")
+        self.assertEqual(plain_of("for s0 s1{when s2{num s0 _0;}else{const v1 _0;num s0 _10;}}"),
+                         "for s0 s1 {\nwhen s2 {\nnum s0 0;\n} else {\nconst v1 0;\nnum s0 _10;\n}\n}\n")
+
+    def test_the_sign_of_zero_changes_nothing_else(self):
+        for zero in ["_0", "0"]:
+            self.assertEqual(ask(load(f"num s7 {zero};const v0 {zero};"), where(f"num s7 {zero};"), run()),
+                             [[0, 2], [0, 0], [0, 2]])
 
     def test_for(self):
         self.assertEqual(plain_of("for s0 s1 { raise ; for s2 s3 { } width s4 ; }"),
