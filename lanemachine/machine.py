@@ -59,11 +59,16 @@ def is_number(number):
     return SMALLEST <= number <= LARGEST
 
 
+def is_there(rows, wanted):
+    # Below 0 Python would count from the other end.
+    return 0 <= wanted < len(rows)
+
+
 def answer_set(machine, numbers, data):
     if machine.code is None:
         return [REFUSED_NONE]
     wanted = numbers[0]
-    if wanted < 0 or wanted >= len(machine.arrays):
+    if not is_there(machine.arrays, wanted):
         return [REFUSED_ABSENT]
     if len(data) != len(machine.arrays[wanted]) or not all([is_number(number) for number in data]):
         return [REFUSED_DATA]
@@ -86,6 +91,33 @@ def answer_run(machine, numbers, row):
     return [0, budget - run.left]
 
 
+def row_held(rows, wanted):
+    if not is_there(rows, wanted):
+        return [REFUSED_ABSENT]
+    return [0] + rows[wanted]
+
+
+def answer_array(machine, numbers, row):
+    if machine.code is None:
+        return [REFUSED_NONE]
+    return row_held(machine.arrays, numbers[0])
+
+
+def answer_vector(machine, numbers, row):
+    return row_held(machine.registers.vectors, numbers[0])
+
+
+def answer_scalar(machine, numbers, row):
+    scalars = machine.registers.scalars
+    if not is_there(scalars, numbers[0]):
+        return [REFUSED_ABSENT]
+    return [0, scalars[numbers[0]]]
+
+
+def answer_mask(machine, numbers, row):
+    return row_held(machine.registers.masks, numbers[0])
+
+
 def answer_map(machine, numbers, row):
     operator = numbers[0]
     length = numbers[1]
@@ -104,10 +136,14 @@ ANSWERERS = {
     3: answer_width,
     4: answer_set,
     5: answer_run,
+    6: answer_array,
+    7: answer_vector,
+    8: answer_scalar,
+    9: answer_mask,
     10: answer_map,
 }
 # How many whole numbers a call has, and which calls have a row behind them.
-WHOLE_NUMBERS = {0: 0, 1: 0, 2: 0, 3: 1, 4: 1, 5: 1, 10: 3}
+WHOLE_NUMBERS = {0: 0, 1: 0, 2: 0, 3: 1, 4: 1, 5: 1, 6: 1, 7: 1, 8: 1, 9: 1, 10: 3}
 WITH_ROW = (0, 1, 4)
 
 

@@ -1,8 +1,8 @@
 """Calls and answers in a readable form, and code that looks at what a run holds.
 
-No call shows a register, a mask or an array yet, so a Probe looks at them by code: it compares and
-divides by the outcome. If what it finds is not what was expected, the run stops with ZERO (4) at the
-place 900000 and up; so an answer without such a place says that all was as expected.
+The calls show what a run has left, and a run that stops leaves nothing; so a Probe looks within the run,
+by code: it compares and divides by the outcome. If what it finds is not what was expected, the run stops
+with ZERO (4) at the place 900000 and up; so an answer without such a place says that all was as expected.
 """
 
 from lanemachine.machine import answers
@@ -45,6 +45,22 @@ def set_array(n, data):
 
 def run(budget=100000):
     return [5, budget]
+
+
+def array_of(n):
+    return [6, n]
+
+
+def vector_of(k):
+    return [7, k]
+
+
+def scalar_of(k):
+    return [8, k]
+
+
+def mask_of(k):
+    return [9, k]
 
 
 def map_of(o, n, p):

@@ -3,8 +3,8 @@
 import random
 import unittest
 
-from tests.support import BIG, DOMAIN, LARGEST, LIMIT, OPERATORS, STEPS, ZERO, Probe, ask, ask_last, load, map_of, run
-from tests.support import set_array, width
+from tests.support import BIG, DOMAIN, LARGEST, LIMIT, OPERATORS, STEPS, ZERO, array_of, ask, ask_last, load, map_of
+from tests.support import run, set_array, width
 
 # As the document has it.
 LINE = ("array N;array N;array N;num s1 N;width s0;num s2 1;calc add s3 s1 s0 @0;calc sub s3 s3 s2 @0;"
@@ -44,21 +44,29 @@ def plain_loop(operator, first, second, place):
 
 
 class TestText(unittest.TestCase):
-    def test_each_operator(self):
+    def test_each_operator_at_the_edges(self):
         for o in range(13):
-            self.assertEqual(bytes(ask_last(map_of(o, 5, 9))[1:]).decode(), map_line(o, 5, 9))
+            for n in [0, 1, 5, 10, 1023, 1024]:
+                for p in [0, 1, 9, 100, LARGEST - 1, LARGEST]:
+                    answer = ask_last(map_of(o, n, p))
+                    self.assertEqual(answer[0], 0)
+                    self.assertEqual(bytes(answer[1:]).decode(), map_line(o, n, p))
 
-    def test_the_edges(self):
-        for o, n, p in [(0, 0, 0), (12, 1024, LARGEST), (0, 1024, 0), (12, 0, LARGEST), (7, 10, 100)]:
-            answer = ask_last(map_of(o, n, p))
-            self.assertEqual(answer[0], 0)
-            self.assertEqual(bytes(answer[1:]).decode(), map_line(o, n, p))
-            self.assertEqual(ask_last(load(answer[1:])), [3, 18])
+    def test_it_is_a_code(self):
+        for o in range(13):
+            for n, p in [(0, 0), (1024, LARGEST), (0, LARGEST), (1024, 0)]:
+                self.assertEqual(ask_last(load(ask_last(map_of(o, n, p))[1:])), [3, 18])
 
     def test_limit(self):
-        for o, n, p in [(-1, 5, 9), (13, 5, 9), (LARGEST, 5, 9), (-LARGEST, 5, 9), (3, -1, 9), (3, 1025, 9),
-                        (3, LARGEST, 9), (3, 5, -1), (3, 5, -LARGEST), (13, 1025, -1)]:
-            self.assertEqual(ask_last(map_of(o, n, p)), LIMIT)
+        outside = {0: [-1, -13, 13, 14, LARGEST, -LARGEST], 1: [-1, 1025, LARGEST, -LARGEST],
+                   2: [-1, LARGEST + 1, -LARGEST]}
+        for edges in [[0, 0, 0], [12, 1024, LARGEST], [3, 5, 9]]:
+            for at, wrong in outside.items():
+                for number in wrong:
+                    told = list(edges)
+                    told[at] = number
+                    self.assertEqual(ask_last(map_of(*told)), LIMIT, told)
+        self.assertEqual(ask_last(map_of(-1, 1025, -1)), LIMIT)
 
     def test_it_changes_nothing(self):
         self.assertEqual(ask(map_of(3, 5, 9), [2])[-1], [-3])
@@ -73,9 +81,8 @@ class TestTheMapsRun(unittest.TestCase):
         calls = [width(lanes), code, set_array(0, first), set_array(1, second), run()]
         strips = -(-n // lanes)
         self.assertEqual(ask_last(*calls), stop or [0, 7 + 12 * strips], (o, lanes, first, second))
-        if results is not None:
-            probe = Probe(map_line(o, n, 9)).array(2, results)
-            self.assertEqual(probe.answer(lanes, [first, second])[0], 0, (o, lanes, first, second))
+        shown = ask(*calls, array_of(0), array_of(1), array_of(2))[-3:]
+        self.assertEqual(shown, [[0] + first, [0] + second, [0] + (results or [0] * n)], (o, lanes, first, second))
 
     def test_whatever_the_width(self):
         chance = random.Random(1)
@@ -105,7 +112,8 @@ class TestTheMapsRun(unittest.TestCase):
             strips = -(-1024 // lanes)
             steps = 7 + 12 * strips
             calls = [width(lanes), code, set_array(0, data), set_array(1, data)]
-            self.assertEqual(ask(*calls, run(), run(steps - 1))[-2:], [[0, steps], [1, STEPS, 0]])
+            self.assertEqual(ask(*calls, run(), run(steps - 1), array_of(2))[-3:],
+                             [[0, steps], [1, STEPS, 0], [0] + [2 * number for number in data]])
 
 
 if __name__ == "__main__":

@@ -2,9 +2,8 @@
 
 import unittest
 
-from lanemachine.machine import Machine, answer_load, answer_run, answer_set, answer_width
-from tests.support import LARGEST, LIMIT, NONE, OUT, STEPS, ZERO, Probe, ask, ask_last, lanes_code, load, run
-from tests.support import set_array, to_bytes, width
+from tests.support import LARGEST, LIMIT, NONE, OUT, STEPS, ZERO, Probe, array_of, ask, ask_last, lanes_code, load
+from tests.support import mask_of, run, scalar_of, set_array, vector_of, width
 
 
 class TestRefusals(unittest.TestCase):
@@ -171,32 +170,18 @@ class TestWhatAStopLeaves(unittest.TestCase):
             self.assertEqual(rows[6], [0, 9 + 9])
 
     def test_registers_are_as_they_were(self):
-        machine = Machine()
-        answer_width(machine, [2], [])
-        answer_load(machine, [], to_bytes("array 1;lanes v1;test m1 v1;read v2 a0 v0;get s1 v2 s0;num s3 8;"
-                                          "when s1 {num s3 4;const v1 7;test m1 v1;calc quo s1 s1 s0 @5;}"))
-        self.assertEqual(answer_run(machine, [100], []), [0, 6])
-        self.assertEqual(answer_set(machine, [0], [1]), [0])
+        code = load("array 1;lanes v1;test m1 v1;read v2 a0 v0;get s1 v2 s0;num s3 8;"
+                    "when s1 {num s3 4;const v1 7;test m1 v1;calc quo s1 s1 s0 @5;}")
+        shown = [scalar_of(3), vector_of(1), mask_of(1), array_of(0)]
         for budget, answer in [(100, [1, ZERO, 5]), (9, [1, STEPS, 0])]:
-            self.assertEqual(answer_run(machine, [budget], []), answer)
-            self.assertEqual(machine.registers.scalars[3], 8)
-            self.assertEqual(machine.registers.vectors[1], [0, 1])
-            self.assertEqual(machine.registers.masks[1], [0, 1])
-            self.assertEqual(machine.arrays, [[1]])
+            rows = ask(width(2), code, run(100), *shown, set_array(0, [1]), run(budget), *shown)
+            self.assertEqual(rows[2:7], [[0, 6], [0, 8], [0, 0, 1], [0, 0, 1], [0, 0]])
+            self.assertEqual(rows[8:], [answer, [0, 8], [0, 0, 1], [0, 0, 1], [0, 1]])
 
     def test_the_run_leaves_registers_and_masks(self):
-        machine = Machine()
-        answer_load(machine, [], to_bytes(lanes_code(3, [5, 0, -6, 7]) + "test m2 v3;num s1 44;"))
-        self.assertEqual(answer_run(machine, [100], [])[0], 0)
-        self.assertEqual(machine.registers.vectors[3], [5, 0, -6, 7])
-        self.assertEqual(machine.registers.masks[2], [1, 0, 1, 1])
-        self.assertEqual(machine.registers.scalars[1], 44)
-        answer_load(machine, [], to_bytes("$"))
-        self.assertEqual(machine.registers.scalars[1], 44)
-        answer_load(machine, [], [])
-        self.assertEqual(machine.registers.scalars, [0] * 16)
-        self.assertEqual(machine.registers.vectors, [[0] * 4] * 16)
-        self.assertEqual(machine.registers.masks, [[0] * 4] * 8)
+        code = load(lanes_code(3, [5, 0, -6, 7]) + "test m2 v3;num s1 44;")
+        shown = [vector_of(3), mask_of(2), scalar_of(1)]
+        self.assertEqual(ask(code, run(100), *shown)[2:], [[0, 5, 0, -6, 7], [0, 1, 0, 1, 1], [0, 44]])
 
     def test_no_fault_is_left(self):
         code = load("array 1;read v1 a0 v0;const v2 1;quo v1 v2 v1 @5;")

@@ -2,8 +2,8 @@
 
 import unittest
 
-from lanemachine.machine import Machine, answer_load, answer_run, answer_width
-from tests.support import ABSENT, DATA, LARGEST, LIMIT, NONE, Probe, ask, load, run, set_array, to_bytes, width
+from tests.support import ABSENT, DATA, LARGEST, LIMIT, NONE, Probe, ask, load, mask_of, run, scalar_of, set_array
+from tests.support import vector_of, width
 
 SHOW_WIDTH = load("width s0;for s1 s0 {}")
 
@@ -39,17 +39,13 @@ class TestWidth(unittest.TestCase):
         self.assertEqual(ask(show, run(), width(2), run())[1::2], [[0, 6], [0, 15]])
 
     def test_registers_and_masks_do_not_stay(self):
-        machine = Machine()
-        answer_load(machine, [], to_bytes("num s3 7;const v2 5;test m1 v2;"))
-        self.assertEqual(answer_run(machine, [9], []), [0, 3])
-        self.assertEqual(machine.registers.scalars[3], 7)
-        self.assertEqual(answer_width(machine, [17], []), LIMIT)
-        self.assertEqual(machine.registers.vectors[2], [5] * 4)
-        self.assertEqual(machine.registers.masks[1], [1] * 4)
-        self.assertEqual(answer_width(machine, [4], []), [0])
-        self.assertEqual(machine.registers.scalars, [0] * 16)
-        self.assertEqual(machine.registers.vectors, [[0] * 4] * 16)
-        self.assertEqual(machine.registers.masks, [[0] * 4] * 8)
+        code = load("num s3 7;const v2 5;test m1 v2;")
+        shown = [scalar_of(3), vector_of(2), mask_of(1)]
+        rows = ask(code, run(9), width(17), *shown, width(4), *shown, run(9), width(0), *shown, width(2), *shown)
+        self.assertEqual(rows[1:10], [[0, 3], LIMIT, [0, 7], [0] + [5] * 4, [0] + [1] * 4,
+                                      [0], [0, 0], [0] + [0] * 4, [0] + [0] * 4])
+        self.assertEqual(rows[10:], [[0, 3], LIMIT, [0, 7], [0] + [5] * 4, [0] + [1] * 4,
+                                     [0], [0, 0], [0, 0, 0], [0, 0, 0]])
 
     def test_faults_do_not_stay(self):
         code = load("array 1;read v0 a0 v1;lanes v1;quo v0 v1 v0 @5;")
